@@ -1,0 +1,1 @@
+"""Wholetongue: a small language, whole."""
