@@ -12,6 +12,29 @@ def fault_of(function, *handed):
     return None
 
 
+def refusal_of(function, *handed):
+    """The class of what this is refused by, None if it isn't."""
+    try:
+        function(*handed)
+    except Exception as refusal:
+        return type(refusal)
+    return None
+
+
+def told_twice(test, function, *handed):
+    """What a function tells; that it tells the same again is held against what was told, changed."""
+    before = repr(handed)
+    first = function(*handed)
+    known = repr(first)
+    for thing in (first if type(first) is tuple else (first,)):
+        if type(thing) in (list, dict):
+            thing.clear()
+    second = function(*handed)
+    test.assertEqual(repr(second), known)
+    test.assertEqual(repr(handed), before)
+    return second
+
+
 def is_place(thing):
     return type(thing) is tuple and len(thing) == 2 and all(type(part) is int for part in thing)
 

@@ -1,6 +1,7 @@
 """The interface as it is told, and the rules for the package that a test can see."""
 
 import ast
+import builtins
 import importlib
 import inspect
 import pathlib
@@ -15,12 +16,29 @@ INTERFACE = (
     ("words", "words_of", ["text"]),
     ("tree", "tree_of", ["text"]),
     ("tree", "worth_tree", ["text"]),
+    ("names", "names_of", ["house", "file"]),
+    ("names", "uses_of", ["house", "file"]),
+    ("worths", "kinds_of", ["house", "file"]),
+    ("worths", "face_of", ["house", "file"]),
+    ("worths", "worths_of", ["house", "file"]),
+    ("middle", "middle_of", ["house", "file"]),
+    ("writing", "text_of", ["tree"]),
 )
 
 BARRED = (
     "type", "typing", "enum", "Enum", "Generic", "Protocol", "ABC", "namedtuple", "NamedTuple",
     "dataclass", "overload", "contextmanager", "abstractmethod", "_wall",
 )
+
+UNUSED_NAMES = (
+    "register", "mro", "elements", "open", "input", "law", "version_info", "exit", "dir", "id", "vars", "gc", "os", "sys",
+)
+
+METHODS = (
+    "append clear copy count endswith extend find get index insert isalnum isalpha isdigit islower isspace isupper "
+    "items join keys ljust lower lstrip partition pop remove replace reverse rfind rjust rpartition rsplit rstrip "
+    "setdefault split splitlines startswith strip update upper values zfill bit_length"
+).split()
 
 BUILTINS = (
     "len range enumerate zip min max sum abs sorted reversed int str bool list tuple dict set "
@@ -100,6 +118,111 @@ class RulesTest(unittest.TestCase):
             for node in ast.walk(tree):
                 if isinstance(node, ast.Call) and isinstance(node.func, ast.Name):
                     self.assertIn(node.func.id, known, path)
+
+    def test_names_are_free(self):
+        for path in FILES:
+            tree = parsed(path)
+            bound = top_names(tree)
+            self.assertEqual(len(set(bound)), len(bound), path)
+            local = [name for name in names_assigned(tree) if name not in bound]
+            for name in bound + local:
+                self.assertFalse(hasattr(builtins, name), (path, name))
+                self.assertNotIn(name, UNUSED_NAMES, path)
+            imported = [alias.name for node in tree.body if isinstance(node, ast.ImportFrom) for alias in node.names]
+            classes = [node.name for node in tree.body if isinstance(node, ast.ClassDef)]
+            taken = set(imported + classes)
+            within = [name for node in tree.body if not isinstance(node, ast.ImportFrom) for name in names_within(node)]
+            self.assertEqual([name for name in within if name in taken], [], path)
+
+    def test_statements_and_values(self):
+        barred = (
+            ast.Global, ast.AsyncFunctionDef, ast.Yield, ast.YieldFrom, ast.Await, ast.Set, ast.SetComp, ast.JoinedStr,
+            ast.With, ast.Lambda, ast.NamedExpr, ast.GeneratorExp, ast.AnnAssign, ast.Match,
+        )
+        for path in FILES:
+            for node in ast.walk(parsed(path)):
+                if isinstance(node, ast.Try):
+                    # Own errors alone are caught.
+                    self.assertEqual([handler.type.id for handler in node.handlers], ["Fault"], path)
+                else:
+                    self.assertNotIsInstance(node, barred, path)
+                if isinstance(node, (ast.FunctionDef, ast.ClassDef)):
+                    self.assertEqual(node.decorator_list, [], path)
+                if isinstance(node, ast.FunctionDef) and node.name.startswith("__"):
+                    self.assertEqual(node.name, "__init__", path)
+
+    def test_module_level_is_plain(self):
+        for path in FILES:
+            for node in parsed(path).body:
+                if isinstance(node, ast.Assign):
+                    self.assertEqual(len(node.targets), 1, path)
+                    self.assertIsNotNone(ast.literal_eval(node.value), path)
+                elif isinstance(node, ast.Expr):
+                    self.assertIsInstance(node.value.value, str, path)
+                else:
+                    self.assertIsInstance(node, (ast.ImportFrom, ast.FunctionDef, ast.ClassDef), path)
+
+    def test_methods(self):
+        own = {
+            node.name for path in FILES for node in ast.walk(parsed(path)) if isinstance(node, ast.FunctionDef)
+        }
+        for path in FILES:
+            for node in ast.walk(parsed(path)):
+                if isinstance(node, ast.Call) and isinstance(node.func, ast.Attribute):
+                    self.assertTrue(node.func.attr in METHODS or node.func.attr in own, (path, node.func.attr))
+
+    def test_no_files_import_each_other(self):
+        imports = {
+            path.stem: [
+                node.module.split(".")[1] for node in parsed(path).body if isinstance(node, ast.ImportFrom)
+            ] for path in FILES
+        }
+        left = dict(imports)
+        while left:
+            free = [file for file in left if not set(left[file]) & set(left)]
+            self.assertNotEqual(free, [], left)
+            for file in free:
+                del left[file]
+
+    def test_what_a_loop_goes_over_is_not_changed_in_it(self):
+        for path in FILES:
+            for node in ast.walk(parsed(path)):
+                if isinstance(node, ast.For):
+                    over = {ast.unparse(part) for part in ast.walk(node.iter) if isinstance(part, (ast.Name, ast.Attribute))}
+                    for inner in [part for row in node.body for part in ast.walk(row)]:
+                        if isinstance(inner, ast.Call) and isinstance(inner.func, ast.Attribute):
+                            if inner.func.attr in ("append", "extend", "remove", "pop", "insert", "clear"):
+                                self.assertNotIn(ast.unparse(inner.func.value), over, path)
+
+
+def top_names(tree):
+    """All names that a file binds at its top."""
+    names = []
+    for node in tree.body:
+        if isinstance(node, ast.ImportFrom):
+            names += [alias.name for alias in node.names]
+        elif isinstance(node, (ast.FunctionDef, ast.ClassDef)):
+            names.append(node.name)
+        elif isinstance(node, ast.Assign):
+            names += [target.id for target in node.targets]
+    return names
+
+
+def names_assigned(tree):
+    return [name for node in tree.body for name in names_within(node)]
+
+
+def names_within(node):
+    """All parameters and names that are assigned within something, comprehensions' too."""
+    names = []
+    for inner in ast.walk(node):
+        if isinstance(inner, ast.Name) and isinstance(inner.ctx, ast.Store):
+            names.append(inner.id)
+        if isinstance(inner, ast.arg):
+            names.append(inner.arg)
+        if isinstance(inner, ast.ExceptHandler) and inner.name:
+            names.append(inner.name)
+    return names
 
 
 if __name__ == "__main__":

@@ -15,6 +15,16 @@ OWN_WORDS = (
 )
 
 
+def is_name(word):
+    """Whether a text is a name and nothing else."""
+    return are_letters(word) and word not in OWN_WORDS
+
+
+def are_letters(word):
+    """Whether a text is as many letters as a name has, be it an own word, too."""
+    return 1 <= len(word) <= LONGEST and run_at(word, 0, LETTERS) == word
+
+
 def words_of(text):
     """(kind, word, place) of all words of a text."""
     words = []
