@@ -1,13 +1,17 @@
 """Houses without faults, made by number: the same number makes the same house."""
 
 import random
+import re
 
 LETTERS = "abcdefghijklmnopqrstuvwxyz"
 
 
 def made_house(number):
     """A house of one to three files that has no fault."""
-    return HouseMaker(number).make()
+    house = HouseMaker(number).make()
+    if any(len(re.findall(r"\w+|\S", row)) > 60 for text in house.values() for row in text.split("\n")):
+        return made_house(number + 1000000)
+    return house
 
 
 class HouseMaker:

@@ -3,13 +3,32 @@
 import unittest
 
 from support import fault_of, refusal_of
-from wholetongue.errors import BadHouse
+from wholetongue.errors import BadHouse, NoName
+from wholetongue.idle import idle_of
 from wholetongue.middle import middle_of
 from wholetongue.names import names_of, uses_of
+from wholetongue.renaming import places_of, renamed
 from wholetongue.worths import face_of, kinds_of, worths_of
 
-NEAR = (names_of, uses_of)
-FAR = (kinds_of, worths_of, face_of, middle_of)
+
+def places_near(house, file):
+    """What places_of tells, but for a place at which no name stands."""
+    try:
+        return places_of(house, file, (1, 7))
+    except NoName:
+        return []
+
+
+def renamed_near(house, file):
+    """What renamed tells, but for a place at which no name stands."""
+    try:
+        return renamed(house, file, (1, 7), "fresh")
+    except NoName:
+        return {}
+
+
+NEAR = (names_of, uses_of, places_near, renamed_near)
+FAR = (kinds_of, worths_of, face_of, middle_of, idle_of)
 ALL = NEAR + FAR
 
 FINE = "const a = 1\nout def f() num\ngive a\nend"

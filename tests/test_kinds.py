@@ -73,7 +73,8 @@ class ToldTest(Kinds):
         self.assertEqual(kinds_of({"a": "def f()\ngive\nend"}, "a"), [])
 
     def test_kinds_of_lets_and_of_what_is_told_later(self):
-        text = "def f()\nlet x = k\nlet y = x = 1\nlet z = g()\nsay y\nsay z\nend\nconst k = 1\ndef g() yes\ngive no\nend"
+        text = "def f()\nlet x = k\nlet y = x = 1\nlet z = g()\nsay y\nsay z\nend\n"
+        text += "const k = 1\ndef g() yes\ngive no\nend"
         told = dict(kinds_of({"a": text}, "a"))
         self.assertEqual([told[(5, 5)], told[(6, 5)], told[(2, 9)]], ["yes", "yes", "num"])
 

@@ -174,8 +174,8 @@ class SetsTest(Middles):
         self.ends(rows, [True], ("end", True))
 
     def test_keeps_of_used_files(self):
-        rows = text("use b", "def f() num", "do b.more(2)", "say b.k", "let old = b.k", "do b.more(3)", "give old * b.k",
-                    "end")
+        rows = text("use b", "def f() num", "do b.more(2)", "say b.k", "let old = b.k", "do b.more(3)",
+                    "give old * b.k", "end")
         b = "out keep k = 1\nout def more(n num)\nk = k + n\nend"
         self.ends(rows, [3], ("end", 18), b=b)
 
@@ -241,8 +241,8 @@ class CallsTest(Middles):
         self.ends(rows, [18], ("end", None))
 
     def test_each_call_has_cells_of_its_own(self):
-        rows = text("def f(n num) num", "let m = n", "if 0 < n", "let k = f(n - 1)", "say m", "m = m + k", "end", "give m",
-                    "end")
+        rows = text("def f(n num) num", "let m = n", "if 0 < n", "let k = f(n - 1)", "say m", "m = m + k", "end",
+                    "give m", "end")
         self.ends(rows, [1, 2, 3], ("end", 6), given=(3,))
 
     def test_calls_of_used_files(self):

@@ -238,6 +238,10 @@ class UseTest(Names):
         self.refused({"a": "use b", "b": "use c", "c": "use b"}, "b", (1, 5), "ring")
         self.refused({"a": "use b", "b": "use b"}, "b", (1, 5), "ring")
 
+    def test_uses_that_lead_to_a_file_that_is_not_there(self):
+        self.refused({"a": "use b", "b": "use d"}, "b", (1, 5), "use")
+        self.refused({"a": "use b", "b": "use d, a"}, "a", (1, 5), "ring")
+
     def test_several_ways_to_a_file_are_no_ring(self):
         house = {"a": "use b, c", "b": "use d", "c": "use b, d", "d": ""}
         self.assertEqual([uses_of(house, file) for file in "abcd"], [("b", "c"), ("d",), ("b", "d"), ()])

@@ -23,6 +23,10 @@ INTERFACE = (
     ("worths", "worths_of", ["house", "file"]),
     ("middle", "middle_of", ["house", "file"]),
     ("writing", "text_of", ["tree"]),
+    ("lean", "lean_of", ["one"]),
+    ("renaming", "places_of", ["house", "file", "place"]),
+    ("renaming", "renamed", ["house", "file", "place", "new"]),
+    ("idle", "idle_of", ["house", "file"]),
 )
 
 BARRED = (
@@ -31,7 +35,8 @@ BARRED = (
 )
 
 UNUSED_NAMES = (
-    "register", "mro", "elements", "open", "input", "law", "version_info", "exit", "dir", "id", "vars", "gc", "os", "sys",
+    "register", "mro", "elements", "open", "input", "law", "version_info", "exit", "dir", "id",
+    "vars", "gc", "os", "sys",
 )
 
 METHODS = (
@@ -188,7 +193,10 @@ class RulesTest(unittest.TestCase):
         for path in FILES:
             for node in ast.walk(parsed(path)):
                 if isinstance(node, ast.For):
-                    over = {ast.unparse(part) for part in ast.walk(node.iter) if isinstance(part, (ast.Name, ast.Attribute))}
+                    over = {
+                        ast.unparse(part) for part in ast.walk(node.iter)
+                        if isinstance(part, (ast.Name, ast.Attribute))
+                    }
                     for inner in [part for row in node.body for part in ast.walk(row)]:
                         if isinstance(inner, ast.Call) and isinstance(inner.func, ast.Attribute):
                             if inner.func.attr in ("append", "extend", "remove", "pop", "insert", "clear"):

@@ -63,7 +63,6 @@ def check_kinds(looked):
                 check_row(looked, row, one[5])
         else:
             check_worth(looked, one[4])
-            check_any(looked, one[4])
 
 
 def check_row(looked, row, kind_of_def):
