@@ -14,6 +14,37 @@ def made_house(number):
     return house
 
 
+def run_house(number):
+    """A made house, with a def "main" in each file that calls all of the file's defs with out."""
+    house = made_house(number)
+    return {file: with_main(text, number) for file, text in house.items()}
+
+
+def with_main(text, number):
+    rows = []
+    for name, parts, kind in re.findall(r"out def (\w+)\((.*)\) ?(num|yes|)", text):
+        given = []
+        for part in parts.split(", "):
+            if part.endswith(" num"):
+                given.append(str((number + len(given)) % 5))
+            elif part.endswith(" yes"):
+                given.append("yes" if number % 2 else "no")
+        call = name + "(" + ", ".join(given) + ")"
+        rows.append(("say " if kind else "do ") + call)
+    kind = ("num", "yes", "")[number % 3]
+    rows = ["out def main() " + kind] + rows + {"num": ["give 7"], "yes": ["give no"], "": []}[kind] + ["end"]
+    if text.count("\n") + 1 + len(rows) > 60:
+        return text
+    return text + "\n" + "\n".join(rows)
+
+
+def to_run(house):
+    """(file, n) of all defs of made texts that can be run."""
+    return [
+        (file, name) for file in sorted(house) for name in re.findall(r"out def (\w+)\(\)", house[file])
+    ]
+
+
 class HouseMaker:
     def __init__(self, number):
         self.chance = random.Random(number)

@@ -33,14 +33,19 @@ def looked_over(house):
     names = names_by_file(trees)
     looked = {}
     for file in turn_of(trees):
-        one = Looked(file, trees[file], names[file])
-        for used in one.uses:
-            take_shown(one, looked[used])
-        set_kinds(one)
-        check_kinds(one)
-        set_worths(one)
-        looked[file] = one
+        looked[file] = look_over(file, trees[file], names[file], looked)
     return looked
+
+
+def look_over(file, tree, names, looked):
+    """A file with its kinds and worths, where those it uses are looked over."""
+    one = Looked(file, tree, names)
+    for used in one.uses:
+        take_shown(one, looked[used])
+    set_kinds(one)
+    check_kinds(one)
+    set_worths(one)
+    return one
 
 
 def take_shown(looked, used):

@@ -6,7 +6,11 @@ from wholetongue.looking import looked_at
 
 def middle_of(house, file):
     """(n, parts' kinds, kind, out, rows, names) of each def of a file, in the text's turn."""
-    looked = looked_at(house, file)
+    return middle_in(looked_at(house, file))
+
+
+def middle_in(looked):
+    """What middle_of tells of a file that was looked at."""
     return [def_made(looked, one) for one in looked.told if one[0] == "def"]
 
 

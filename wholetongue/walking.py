@@ -58,3 +58,8 @@ def worths_in(told):
         else:
             worths.append(one[4])
     return worths
+
+
+def is_place(thing):
+    """Whether a tuple of a tree is a place: no other one begins by a number."""
+    return len(thing) == 2 and isinstance(thing[0], int)

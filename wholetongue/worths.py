@@ -26,7 +26,11 @@ def worths_told(looked, what):
 
 def face_of(house, file):
     """What a file shows to those that use it, rising by names."""
-    looked = looked_at(house, file)
+    return face_in(looked_at(house, file))
+
+
+def face_in(looked):
+    """What face_of tells of a file that was looked at."""
     return sorted([shown(looked, one) for one in looked.told if one[2]])
 
 
