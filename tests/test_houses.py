@@ -5,8 +5,10 @@ import unittest
 from support import fault_of, refusal_of
 from wholetongue.errors import BadHouse, NoName
 from wholetongue.idle import idle_of
+from wholetongue.link import image_of
 from wholetongue.middle import middle_of
 from wholetongue.names import names_of, uses_of
+from wholetongue.papers import joined, papers
 from wholetongue.renaming import places_of, renamed
 from wholetongue.worths import face_of, kinds_of, worths_of
 
@@ -27,8 +29,21 @@ def renamed_near(house, file):
         return {}
 
 
+def of_whole(function):
+    """A function that is handed a house alone, handed a file that the house must have, too."""
+    def asked(house, file):
+        told = function(house)
+        if file not in house:
+            raise BadHouse("no such file")
+        return told
+    return asked
+
+
 NEAR = (names_of, uses_of, places_near, renamed_near)
-FAR = (kinds_of, worths_of, face_of, middle_of, idle_of)
+FAR = (kinds_of, worths_of, face_of, middle_of, idle_of) + tuple(of_whole(function) for function in (
+    image_of, lambda house: image_of(house, lean=True), papers, lambda house: papers(house, lean=True),
+    lambda house: joined(house, (), []), lambda house: joined(house, (), [], lean=True),
+))
 ALL = NEAR + FAR
 
 FINE = "const a = 1\nout def f() num\ngive a\nend"

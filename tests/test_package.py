@@ -27,7 +27,36 @@ INTERFACE = (
     ("renaming", "places_of", ["house", "file", "place"]),
     ("renaming", "renamed", ["house", "file", "place", "new"]),
     ("idle", "idle_of", ["house", "file"]),
+    ("differing", "differing", ["house", "other"]),
+    ("differing", "otherwise_by", ["house", "other"]),
+    ("machine", "machine_of", ["one"]),
+    ("link", "image_of", ["house", "*lean"]),
+    ("run", "run", ["image", "file", "name", "*most"]),
+    ("run", "Runner", ["image", "file", "name", "*most"]),
+    ("look", "Looker", ["image", "file", "name", "*most"]),
+    ("counts", "traced", ["image", "file", "name", "*most"]),
+    ("counts", "counted", ["image", "file", "name", "*most"]),
+    ("counts", "called", ["image", "file", "name", "*most"]),
+    ("counts", "judged", ["image", "file", "name", "told", "*most"]),
+    ("papers", "papers", ["house", "*lean"]),
+    ("papers", "joined", ["house", "image", "papers", "*lean"]),
+    ("house", "House", []),
 )
+
+DEFAULTS = {"most": 2000, "lean": False, "when": "", "at_depth": 0}
+
+CLASSES = {
+    ("run", "Runner"): {"next": [], "where": [], "said": [], "outcome": []},
+    ("look", "Looker"): {
+        "stop": ["file", "row", "*when"], "unstop": ["file", "row"], "back": [], "stops": [], "said": [], "frames": [],
+        "seen": ["depth"], "lasting": [], "step": [], "go": [], "over": [], "out": [], "back_go": [], "where": [],
+        "outcome": [], "ask": ["text", "depth"], "watch": ["text", "*at_depth"],
+    },
+    ("house", "House"): {
+        "lay": ["file", "text"], "edit": ["file", "row", "many", "rows"], "drop": ["file"], "text": ["file"],
+        "all_files": [], "make": [], "faces": [], "image": [],
+    },
+}
 
 BARRED = (
     "type", "typing", "enum", "Enum", "Generic", "Protocol", "ABC", "namedtuple", "NamedTuple",
@@ -61,7 +90,28 @@ class InterfaceTest(unittest.TestCase):
             module = importlib.import_module("wholetongue." + file)
             thing = getattr(module, name)
             self.assertEqual(thing.__module__, "wholetongue." + file)
-            self.assertEqual(list(inspect.signature(thing).parameters), wanted)
+            self.assertEqual(self.handed(thing), wanted)
+
+    def test_methods_stand_in_their_own_class(self):
+        for (file, name), methods in CLASSES.items():
+            made = getattr(importlib.import_module("wholetongue." + file), name)
+            for method, wanted in methods.items():
+                self.assertEqual(self.handed(vars(made)[method])[1:], wanted, (name, method))
+
+    def handed(self, thing):
+        """The names of what is handed in, with a star ahead of those that are handed in by name."""
+        found = []
+        for one in inspect.signature(thing).parameters.values():
+            by_name = one.kind is one.KEYWORD_ONLY
+            found.append("*" * by_name + one.name)
+            if by_name:
+                self.assertEqual(one.default, DEFAULTS[one.name])
+            else:
+                self.assertIs(one.default, one.empty)
+        return found
+
+    def test_counts_by_name(self):
+        self.assertEqual(importlib.import_module("wholetongue.run").ROWS, 2000)
 
 
 class RulesTest(unittest.TestCase):
@@ -117,7 +167,7 @@ class RulesTest(unittest.TestCase):
                 if isinstance(node, (ast.FunctionDef, ast.ClassDef)):
                     known.add(node.name)
                 if isinstance(node, ast.FunctionDef):
-                    known.update(one.arg for one in node.args.args)
+                    known.update(one.arg for one in node.args.args + node.args.kwonlyargs)
                 if isinstance(node, ast.ImportFrom):
                     known.update(alias.name for alias in node.names)
             for node in ast.walk(tree):

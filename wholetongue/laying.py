@@ -34,7 +34,7 @@ class Layout:
 
     def place_defs(self):
         for number, made_def in enumerate(self.defs):
-            self.def_at[made_def.file, made_def.name] = number
+            self.def_at[made_def.file, made_def.def_name] = number
             self.starts.append(self.end)
             for row, told in enumerate(made_def.rows):
                 self.spots.append(Spot(self.end, number, made_def, row))
@@ -81,7 +81,7 @@ def image_laid(layout):
         tuple([(made.file,) + keep for made in files for keep in made.keeps]),
         tuple([(made.file,) + const for made in files for const in made.consts]),
         tuple([(made.file, tuple(made.looked.uses)) for made in files]),
-        tuple([(one.file, one.name) + name for one in layout.defs for name in one.names]),
+        tuple([(one.file, one.def_name) + name for one in layout.defs for name in one.names]),
     )
 
 
@@ -89,5 +89,5 @@ def defs_laid(layout):
     ends = layout.starts[1:] + [layout.end]
     laid = []
     for one, at, end in zip(layout.defs, layout.starts, ends):
-        laid.append((one.file, one.name, at, end, one.kinds, one.gives, one.is_out, one.many_cells))
+        laid.append((one.file, one.def_name, at, end, one.kinds, one.gives, one.is_out, one.many_cells))
     return tuple(laid)

@@ -25,7 +25,7 @@ class MadeDef:
         if lean:
             one = lean_of(one)
         self.file = file
-        self.name, self.kinds, self.gives, self.is_out, self.cell_rows, self.names = one
+        self.def_name, self.kinds, self.gives, self.is_out, self.cell_rows, self.names = one
         self.rows = machine_of(one)
         self.many_cells = cells_in(self)
 
